@@ -1,0 +1,1 @@
+"""Order sheets: texts from which a trader's orders are made."""

@@ -1,0 +1,111 @@
+"""What check and show have in common."""
+
+import contextlib
+import io
+import unittest
+
+from ordersheets.sheets import check, show
+from tests.helper import bytes_of
+
+SHEET = bytes_of("const a = 2 + 3 * 4; desk d { let b = a; if b { } else { } }")
+
+
+class Texts(unittest.TestCase):
+    def assert_refused(self, text):
+        self.assertEqual(check(text), [-1])
+        self.assertEqual(show(text), [-1])
+
+    def test_3000_bytes_are_read(self):
+        self.assertEqual(check([32] * 3000), [0, 0, 0, 0])
+        self.assertEqual(show([32] * 3000), [0, 0])
+        longest = bytes_of("const a = 1;") + [10] * 2988
+        self.assertEqual(check(longest), [0, 0, 0, 0])
+        self.assertEqual(show(longest), [0, 13] + bytes_of("const a = 1;\n"))
+
+    def test_3001_bytes_are_refused(self):
+        self.assert_refused([32] * 3001)
+        self.assert_refused([32] * 4000)
+
+    def test_numbers_that_are_no_bytes_are_refused(self):
+        for number in (-1, 256, -10 ** 18, 10 ** 18):
+            self.assert_refused([number])
+            self.assert_refused(SHEET + [number])
+            self.assert_refused([number] + SHEET)
+
+    def test_this_refusal_comes_before_any_fault(self):
+        self.assert_refused(bytes_of("@") + [256])
+        self.assert_refused(bytes_of("const # ") + [-1])
+        self.assert_refused(bytes_of("@") * 3001)
+
+    def test_0_and_255_are_bytes(self):
+        for byte in (0, 255):
+            self.assertEqual(check([byte]), [0, 1, 1, 1])
+            self.assertEqual(show([byte]), [-3])
+            self.assertEqual(check([35, byte]), [0, 0, 0, 0])
+            self.assertEqual(show([35, byte]), [0, 0])
+
+    def test_every_number_from_0_to_255_is_taken(self):
+        for byte in range(256):
+            self.assertEqual(check([byte])[0], 0)
+
+
+class Calls(unittest.TestCase):
+    def test_the_list_stays_as_it_was(self):
+        for text in ([], SHEET, SHEET + [64], [256], [32] * 3001):
+            handed = list(text)
+            check(handed)
+            self.assertEqual(handed, text)
+            show(handed)
+            self.assertEqual(handed, text)
+
+    def test_nothing_is_kept_from_one_call_to_the_next(self):
+        faulty = bytes_of("fun f(x) = x; desk d { let y = 1; block b sell zone 0 price 0 amount t: @")
+        for call in (check, show):
+            first = call(SHEET)
+            self.assertEqual(call(SHEET), first)
+            self.assertEqual(call(faulty), call(faulty))
+            self.assertEqual(call(SHEET), first)
+        again = bytes_of("fun f(x) = x; desk d { let y = 1; block b sell zone 0 price 0 amount t: 1; }")
+        self.assertEqual(check(again), [0, 0, 0, 0])
+        self.assertEqual(check(again), [0, 0, 0, 0])
+
+    def test_an_answer_can_be_changed_without_harm(self):
+        answer = show(SHEET)
+        kept = list(answer)
+        answer.clear()
+        self.assertEqual(show(SHEET), kept)
+
+    def test_answers_are_lists_of_plain_whole_numbers(self):
+        for call in (check, show):
+            for text in (SHEET, [], [64], [256]):
+                answer = call(text)
+                self.assertIs(type(answer), list)
+                self.assertTrue(all(type(number) is int for number in answer))
+
+    def test_nothing_is_printed(self):
+        printed = io.StringIO()
+        with contextlib.redirect_stdout(printed), contextlib.redirect_stderr(printed):
+            check(SHEET)
+            show(SHEET)
+            check([64])
+            show([64])
+        self.assertEqual(printed.getvalue(), "")
+
+    def test_long_sheets_are_gone_through_by_loops(self):
+        long_ones = (
+            "const a = " + "+".join(["1"] * 1490) + ";",
+            "const a = " + "&&".join(["1"] * 990) + ";",
+            "desk d{" + "if 1{}" * 490 + "}",
+            "desk d{" + "if 1{}else{}" * 245 + "}",
+            "".join(f"const x{number}=1;" for number in range(180)),
+            "#" * 3000,
+            "\n" * 3000,
+        )
+        for text in long_ones:
+            self.assertLessEqual(len(text), 3000)
+            self.assertEqual(check(bytes_of(text)), [0, 0, 0, 0])
+            self.assertEqual(show(bytes_of(text))[0], 0)
+        self.assertEqual(check(bytes_of("(" * 3000)), [0, 2, 1, 1])
+        self.assertEqual(check(bytes_of("const a=" + "(" * 2900)), [0, 6, 1, 21])
+        self.assertEqual(check(bytes_of("const a=" + "-" * 2900)), [0, 6, 1, 21])
+        self.assertEqual(check(bytes_of("desk d{" + "if 1{" * 500)), [0, 6, 1, 38])
