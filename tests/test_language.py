@@ -15,8 +15,8 @@ USED_BUILTINS = set(
     "ArithmeticError OverflowError RuntimeError NotImplementedError AttributeError StopIteration".split())
 METHODS = set(
     "append clear copy count endswith extend find get index insert isalnum isalpha isdigit islower isspace isupper "
-    "items join keys ljust lower lstrip partition pop remove replace reverse rfind rjust rpartition rsplit rstrip setdefault "
-    "split splitlines startswith strip update upper values zfill bit_length".split())
+    "items join keys ljust lower lstrip partition pop remove replace reverse rfind rjust rpartition rsplit rstrip "
+    "setdefault split splitlines startswith strip update upper values zfill bit_length".split())
 OWN_METHODS = ("__init__", "__eq__", "__repr__", "__str__", "__len__")
 NOT_AS_VALUES = set(
     "items keys values pop update append clear extend insert remove reverse setdefault sort args encode format "
