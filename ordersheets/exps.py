@@ -1,6 +1,6 @@
 """Reads an exp. The depth handed on is how many levels are open already."""
 
-from ordersheets.nodes import Call, Chain, Choice, Name, Number, Sum, Unary
+from ordersheets.nodes import COMPARISON, Call, Chain, Choice, Name, Number, Sum, Unary
 from ordersheets.reader import ARGUMENTS, NOT_KNOWN, TOO_DEEP
 
 MOST_LEVELS = 12
@@ -13,7 +13,6 @@ CHAIN_SIGNS = (
     ("+", "-"),
     ("*", "/", "/rest"),
 )
-COMPARISON = 2
 
 
 def deeper(reader, depth):

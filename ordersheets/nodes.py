@@ -4,6 +4,11 @@ An exp is a Number, Name, Call, Unary, Chain, Choice or Sum; a statement is
 a Let, For, If, Step or Block; a top is a Const, Fun or Desk.
 """
 
+# Strengths of chains: how tightly their signs hold their operands.
+EITHER = 0
+BOTH = 1
+COMPARISON = 2
+
 
 class Number:
     def __init__(self, worth):
@@ -30,7 +35,7 @@ class Unary:
 class Chain:
     """Two or more operands with signs between them.
 
-    The strength tells which: 0 an either, 1 a both, 2 a comparison, 3 a sums, 4 a products.
+    The strength tells which: EITHER, BOTH, COMPARISON, then 3 a sums, 4 a products.
     """
 
     def __init__(self, strength, operands, signs):

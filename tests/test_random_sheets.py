@@ -9,6 +9,7 @@ from ordersheets.sheets import check, show
 from tests.helper import bytes_of, form_of
 
 TOKEN = re.compile(r"[A-Za-z_][A-Za-z_0-9]*|[0-9]+|==|!=|<=|>=|&&|\|\||\.\.|[-+*/%(){},;:=<>!]")
+SIGNS = (["||"], ["&&"], ["==", "!=", "<=", ">=", "<", ">"], ["+", "-"], ["*", "/", "%"])
 STARTS = (["const", "a", "="], ["fun", "f", "("], ["desk", "d", "{"], ["desk", "d", "{", "if"], [])
 
 
@@ -122,12 +123,14 @@ class Maker:
     def chain(self, depth, strength):
         if strength == 5:
             return self.unary(depth)
-        signs = [["||"], ["&&"], ["==", "!=", "<=", ">=", "<", ">"], ["+", "-"], ["*", "/", "%"]][strength]
         made = self.chain(depth, strength + 1)
         more = self.random.choice([0, 0, 0, 0, 0, 1, 2]) if depth > 0 else 0
         for _ in range(min(more, 1) if strength == 2 else more):
-            made += [self.random.choice(signs), *self.chain(depth - 1, strength + 1)]
+            made += [self.sign(strength), *self.chain(depth - 1, strength + 1)]
         return made
+
+    def sign(self, strength):
+        return self.random.choice(SIGNS[strength])
 
     def unary(self, depth):
         if self.random.randrange(6) == 0:

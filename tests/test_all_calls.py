@@ -1,19 +1,38 @@
-"""What check and show have in common."""
+"""What all calls have in common."""
 
 import contextlib
+import functools
 import io
 import unittest
 
-from ordersheets.sheets import check, show
-from tests.helper import bytes_of
+from ordersheets.sheets import check, curve, expand, show
+from tests.helper import EXAMPLE, MARKET, bytes_of
 
 SHEET = bytes_of("const a = 2 + 3 * 4; desk d { let b = a; if b { } else { } }")
+
+# Each as a call of a text alone.
+CALLS = (check, show, functools.partial(expand, *MARKET), functools.partial(curve, *MARKET, 0, 0, 15))
+TEXTS = (
+    [], SHEET, bytes_of(EXAMPLE), SHEET + [64], SHEET + bytes_of("const c = 1 / 0;"),
+    bytes_of("desk e { for i in 1 .. 10000 { } }"), [64], [256], [-1], [32] * 3001,
+)
+
+
+def refuse(*told):
+    raise AssertionError("the list is changed")
+
+
+class Unchanging(list):
+    """A list that tells when it's changed."""
+
+    append = extend = insert = pop = remove = clear = reverse = sort = refuse
+    __setitem__ = __delitem__ = __iadd__ = __imul__ = refuse
 
 
 class Texts(unittest.TestCase):
     def assert_refused(self, text):
-        self.assertEqual(check(text), [-1])
-        self.assertEqual(show(text), [-1])
+        for call in CALLS:
+            self.assertEqual(call(text), [-1])
 
     def test_3000_bytes_are_read(self):
         self.assertEqual(check([32] * 3000), [0, 0, 0, 0])
@@ -51,44 +70,51 @@ class Texts(unittest.TestCase):
 
 class Calls(unittest.TestCase):
     def test_the_list_stays_as_it_was(self):
-        for text in ([], SHEET, SHEET + [64], [256], [32] * 3001):
-            handed = list(text)
-            check(handed)
-            self.assertEqual(handed, text)
-            show(handed)
-            self.assertEqual(handed, text)
+        for text in TEXTS:
+            for call in CALLS:
+                handed = list(text)
+                call(handed)
+                self.assertEqual(handed, text)
+
+    def test_the_list_is_not_changed_for_a_while_either(self):
+        for text in TEXTS:
+            for call in CALLS:
+                self.assertEqual(call(Unchanging(text)), call(list(text)))
 
     def test_nothing_is_kept_from_one_call_to_the_next(self):
         faulty = bytes_of("fun f(x) = x; desk d { let y = 1; block b sell zone 0 price 0 amount t: @")
-        for call in (check, show):
+        for call in CALLS:
             first = call(SHEET)
             self.assertEqual(call(SHEET), first)
             self.assertEqual(call(faulty), call(faulty))
             self.assertEqual(call(SHEET), first)
+            answers = [call(list(text)) for text in TEXTS]
+            self.assertEqual([call(list(text)) for text in reversed(TEXTS)], answers[::-1])
         again = bytes_of("fun f(x) = x; desk d { let y = 1; block b sell zone 0 price 0 amount t: 1; }")
         self.assertEqual(check(again), [0, 0, 0, 0])
         self.assertEqual(check(again), [0, 0, 0, 0])
 
     def test_an_answer_can_be_changed_without_harm(self):
-        answer = show(SHEET)
-        kept = list(answer)
-        answer.clear()
-        self.assertEqual(show(SHEET), kept)
+        for call in CALLS:
+            answer = call(bytes_of(EXAMPLE))
+            kept = list(answer)
+            answer.clear()
+            self.assertEqual(call(bytes_of(EXAMPLE)), kept)
 
     def test_answers_are_lists_of_plain_whole_numbers(self):
-        for call in (check, show):
-            for text in (SHEET, [], [64], [256]):
+        for call in CALLS:
+            for text in TEXTS:
                 answer = call(text)
                 self.assertIs(type(answer), list)
                 self.assertTrue(all(type(number) is int for number in answer))
+                self.assertTrue(answer[0] == 0 or answer[0] < 0 and len(answer) == 1)
 
     def test_nothing_is_printed(self):
         printed = io.StringIO()
         with contextlib.redirect_stdout(printed), contextlib.redirect_stderr(printed):
-            check(SHEET)
-            show(SHEET)
-            check([64])
-            show([64])
+            for call in CALLS:
+                for text in TEXTS:
+                    call(text)
         self.assertEqual(printed.getvalue(), "")
 
     def test_long_sheets_are_gone_through_by_loops(self):
@@ -103,8 +129,8 @@ class Calls(unittest.TestCase):
         )
         for text in long_ones:
             self.assertLessEqual(len(text), 3000)
-            self.assertEqual(check(bytes_of(text)), [0, 0, 0, 0])
-            self.assertEqual(show(bytes_of(text))[0], 0)
+            for call in CALLS:
+                self.assertEqual(call(bytes_of(text))[0], 0)
         self.assertEqual(check(bytes_of("(" * 3000)), [0, 2, 1, 1])
         self.assertEqual(check(bytes_of("const a=" + "(" * 2900)), [0, 6, 1, 21])
         self.assertEqual(check(bytes_of("const a=" + "-" * 2900)), [0, 6, 1, 21])
