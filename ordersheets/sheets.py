@@ -5,6 +5,7 @@ from ordersheets.form import sheet_form
 from ordersheets.orders import demand, order_numbers, supply
 from ordersheets.reader import Fault
 from ordersheets.refusals import Faulty, NoSuchPlace, NotAsTold, Refusal
+from ordersheets.simpler import simpler_tops
 from ordersheets.tops import read_sheet
 
 LONGEST_TEXT = 3000
@@ -90,3 +91,23 @@ def curve(zones, quarters, low, high, zone, quarter, price, text):
     except Refusal as refusal:
         return [refusal.number]
     return [0, supply(orders, zone, quarter, price), demand(orders, zone, quarter, price)]
+
+
+def fold(text):
+    """A row: the bytes of the one form of the sheet made simpler."""
+    try:
+        need(is_text(text))
+        tops = simpler_tops(sound_tops(text))
+    except Refusal as refusal:
+        return [refusal.number]
+    return [0] + row(sheet_form(tops))
+
+
+def steps(zones, quarters, low, high, text):
+    """How many steps the expansion took."""
+    try:
+        need(is_market(zones, quarters, low, high) and is_text(text))
+        expansion = expand_tops(Market(zones, quarters, low, high), sound_tops(text))
+    except Refusal as refusal:
+        return [refusal.number]
+    return [0, expansion.worker.taken]

@@ -2,7 +2,7 @@
 
 import unittest
 
-from ordersheets.sheets import check, expand, show
+from ordersheets.sheets import check, expand, fold, show, steps
 
 MARK = "^"
 
@@ -26,11 +26,15 @@ def bytes_of(text):
     return list(text.encode("latin-1"))
 
 
-def form_of(text):
-    answer = show(bytes_of(text))
+def form_of(text, call=show):
+    answer = call(bytes_of(text))
     if answer[0] != 0 or answer[1] != len(answer) - 2:
         raise AssertionError(f"no row: {answer[:5]} of {text!r}")
     return bytes(answer[2:]).decode("latin-1")
+
+
+def folded(text):
+    return form_of(text, fold)
 
 
 def orders_of(text, market=MARKET):
@@ -104,6 +108,7 @@ class SheetCase(unittest.TestCase):
     def assert_refused(self, number, text, market=MARKET):
         self.assertEqual(check(bytes_of(text)), [0, 0, 0, 0], text)
         self.assertEqual(expand(*market, bytes_of(text)), [number], text)
+        self.assertEqual(steps(*market, bytes_of(text)), [number], text)
 
     def assert_value(self, value, exp, given=""):
         """The exp's value shows in an order's amount: 1 if it's this one, else 2."""
@@ -115,8 +120,11 @@ class SheetCase(unittest.TestCase):
         self.assert_refused(number, f"{given} const result = {exp};")
 
     def assert_steps(self, count, text, market=MARKET):
-        """With so many steps left it's expanded, with one less it's over."""
-        self.assertEqual(expand(*market, bytes_of(burn(MOST_STEPS - count) + text))[0], 0, text)
+        """It takes so many steps: with as many left it's expanded, with one less it's over."""
+        self.assertEqual(steps(*market, bytes_of(text)), [0, count], text)
+        last = burn(MOST_STEPS - count) + text
+        self.assertEqual(expand(*market, bytes_of(last))[0], 0, text)
+        self.assertEqual(steps(*market, bytes_of(last)), [0, MOST_STEPS], text)
         self.assert_refused(-13, burn(MOST_STEPS + 1 - count) + text, market)
 
     def assert_refused_after(self, count, number, text, market=MARKET):

@@ -5,13 +5,16 @@ import functools
 import io
 import unittest
 
-from ordersheets.sheets import check, curve, expand, show
+from ordersheets.sheets import check, curve, expand, fold, show, steps
 from tests.helper import EXAMPLE, MARKET, bytes_of
 
 SHEET = bytes_of("const a = 2 + 3 * 4; desk d { let b = a; if b { } else { } }")
 
 # Each as a call of a text alone.
-CALLS = (check, show, functools.partial(expand, *MARKET), functools.partial(curve, *MARKET, 0, 0, 15))
+CALLS = (
+    check, show, functools.partial(expand, *MARKET), functools.partial(curve, *MARKET, 0, 0, 15), fold,
+    functools.partial(steps, *MARKET),
+)
 TEXTS = (
     [], SHEET, bytes_of(EXAMPLE), SHEET + [64], SHEET + bytes_of("const c = 1 / 0;"),
     bytes_of("desk e { for i in 1 .. 10000 { } }"), [64], [256], [-1], [32] * 3001,

@@ -123,6 +123,8 @@ class Statements(DeskCase):
     def test_a_name_within_a_for_leaves_its_turns_alone(self):
         given = "fun f(i) = i * 100; desk d { for i in 1 .. 3 { let x = f(7) + f(i); "
         self.assert_orders([step(801), step(902), step(1003)], given + sell("x + i") + " } }")
+        given = "fun f(n) = sum(i in 1 .. n: i); desk d { for i in 1 .. 3 { let x = f(4); "
+        self.assert_orders([step(11), step(12), step(13)], given + sell("x + i") + " } }")
 
     def test_if(self):
         for condition in ("1", "-1", "7", "1 < 2"):
@@ -251,6 +253,8 @@ class NoOrders(DeskCase):
         self.assert_desk([], block(0))
         self.assert_desk([(1, 0, 0, 0, 0, 0, -1, 0, 3)], block("if q == 1 then 3 else 0"))
         self.assert_desk([(1, 0, 0, 0, 0, 0, -1, 3, 0)], block("if q == 0 then 3 else 0"))
+        self.assert_desk([(1, 0, 0, 0, 0, 0, -1, 0, 1)], block("q"))
+        self.assert_desk([(1, 0, 0, 0, 0, 0, -1, 1)], block(1), (1, 1, 0, 0))
 
     def test_such_a_block_needs_no_parent(self):
         self.assert_desk([], block(0, "p") + block(0, "", "p"))

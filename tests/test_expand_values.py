@@ -168,13 +168,16 @@ class Functions(ValueCase):
         self.assert_value(23, "f(3) + x", "fun f(x) = x; const x = 20;")
         self.assert_value(13, "g(3)", "fun f(x) = x + 5; fun g(x) = f(x + 5) * 0 + f(x + 5);")
         self.assert_value(43, "g(4)", "fun f(x) = x * 10; fun g(x) = f(x) + x - 1;")
-        self.assert_value(6, "f(3) + i * 0", "fun f(n) = sum(i in 1 .. n: i); const i = 100;")
+        self.assert_value(106, "f(3) + i", "fun f(n) = sum(i in 1 .. n: i); const i = 100;")
         self.assert_value(200, "sum(x in 1 .. 3: f(x) * 0) + i + i", "fun f(i) = i; const i = 100;")
 
     def test_a_call_leaves_the_names_around_it_alone(self):
         given = "fun f(x, y) = x * 10 + y; fun g(x, y) = f(x, y) + f(3, 4) + (x - 1) * y;"
         self.assert_value(12 + 34, "g(1, 2)", given)
         self.assert_value(3 * 100 + 1 + 2 + 3, "sum(i in 1 .. 3: f(50) * 2 + i)", "fun f(i) = i;")
+        self.assert_value(3 * 15 + 1 + 2 + 3, "sum(i in 1 .. 3: f(5) + i)", "fun f(n) = sum(i in 1 .. n: i);")
+        given = "fun f(n) = sum(i in 1 .. n: i); fun g(n) = sum(i in 1 .. n: f(4) * i + i);"
+        self.assert_value(10 * 6 + 6, "g(3)", given)
 
     def test_arguments_are_worked_out_from_the_left_ahead_of_the_exp(self):
         self.assert_not_worked_out(-11, "less(1 / 0, top * top)")

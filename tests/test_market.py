@@ -2,7 +2,7 @@
 
 import unittest
 
-from ordersheets.sheets import curve, expand
+from ordersheets.sheets import curve, expand, steps
 from tests.helper import MARKET, bytes_of
 
 SOUND = bytes_of("desk d { let a = 1; }")
@@ -27,7 +27,7 @@ def curve_at_0(zones, quarters, low, high, text):
 
 
 # All calls of a market and a text.
-CALLS = (expand, curve_at_0)
+CALLS = (expand, curve_at_0, steps)
 
 
 class Markets(unittest.TestCase):
@@ -84,6 +84,7 @@ class Texts(unittest.TestCase):
         text += [32] * (3000 - len(text))
         self.assertEqual(expand(*MARKET, text), [0, 1, 8, 0, 0, 0, 0, 0, 0, 0, 1])
         self.assertEqual(curve_at_0(*MARKET, text), [0, 1, 0])
+        self.assertEqual(steps(*MARKET, text), [0, 5])
         for call in CALLS:
             self.assertEqual(call(*MARKET, text + [32]), [-1])
 

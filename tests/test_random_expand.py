@@ -1,11 +1,11 @@
-"""expand and curve on many sheets that are put together by the grammar, against a second way to expand them."""
+"""expand, steps, curve and fold on many sheets put together by the grammar, against a second way to expand them."""
 
 import functools
 import unittest
 
-from ordersheets.sheets import curve, expand
-from tests.helper import bytes_of
-from tests.test_random_sheets import TOKEN, Maker
+from ordersheets.sheets import curve, expand, steps
+from tests.helper import bytes_of, folded, form_of
+from tests.test_random_sheets import TOKEN, Maker, made_sheets
 
 SHEETS = 1000
 
@@ -359,12 +359,13 @@ def second_curve(rows, zone, quarter, price):
 
 
 class RandomSheets(unittest.TestCase):
-    def test_expand(self):
+    def test_expand_and_steps(self):
         met = {}
         for text in traded_sheets(SHEETS):
             for market in ((2, 2, 0, 100), (3, 4, -10, 50)):
-                answer, _ = second_answer(market, text)
+                answer, count = second_answer(market, text)
                 self.assertEqual(expand(*market, bytes_of(text)), answer, text)
+                self.assertEqual(steps(*market, bytes_of(text)), answer if count is None else [0, count], text)
                 kind = min(answer[0], 0) or min(answer[1], 1)
                 met[kind] = met.get(kind, 0) + 1
         # All kinds of answers are met, -16 among them.
@@ -386,3 +387,26 @@ class RandomSheets(unittest.TestCase):
                 if counted > 1500:
                     return
         self.fail("too few orders")
+
+    def test_a_sheet_made_simpler_means_the_same(self):
+        market = (2, 2, 0, 100)
+        changed = 0
+        for text in traded_sheets(SHEETS):
+            simpler = folded(text)
+            self.assertEqual(folded(simpler), simpler)
+            self.assertEqual(form_of(simpler), simpler)
+            answer, count = second_answer(market, text)
+            # Fewer steps may be enough where they weren't before.
+            if answer != [-13]:
+                self.assertEqual(expand(*market, bytes_of(simpler)), answer, text)
+            if count is not None:
+                self.assertLessEqual(steps(*market, bytes_of(simpler))[1], count, text)
+            changed += simpler != form_of(text)
+        self.assertGreater(changed, SHEETS // 2)
+
+    def test_nothing_is_left_to_be_made_simpler(self):
+        for tokens in made_sheets(400):
+            simpler = folded(" ".join(tokens))
+            if len(simpler) <= 3000:
+                self.assertEqual(folded(simpler), simpler)
+                self.assertEqual(form_of(simpler), simpler)

@@ -1,7 +1,7 @@
-"""expand: the 10000 steps, and what takes one and when (-13)."""
+"""steps, and expand as far as it has 10000 of them: what takes one and when (-13)."""
 
-from ordersheets.sheets import expand
-from tests.helper import MARKET, SheetCase, burn, bytes_of
+from ordersheets.sheets import expand, steps
+from tests.helper import EXAMPLE, MARKET, SheetCase, burn, bytes_of
 
 # Each exp with the steps it takes; a, b and c are consts, f0 to f2 functions of 0 to 2 parameters.
 GIVEN = "const a = 1; const b = 2; const c = 3; fun f0() = 5; fun f1(x) = x; fun f2(x, y) = x + y; "
@@ -28,12 +28,18 @@ EXPS = (
 
 class Counts(SheetCase):
     def test_the_steps_burnt_by_these_tests(self):
-        self.assert_orders([], burn(3))
-        self.assert_orders([], burn(10000))
+        for count in (3, 4, 5, 9999, 10000):
+            self.assertEqual(steps(*MARKET, bytes_of(burn(count))), [0, count])
+            self.assert_orders([], burn(count))
         self.assert_refused(-13, burn(10001))
+
+    def test_the_example(self):
+        turn = 1 + 1 + 1 + 1 + 7 + 9 + 5
+        self.assert_steps(3 + 2 * turn + (3 + 2 * 5) + (3 + 2 + 1), EXAMPLE)
 
     def test_what_takes_no_step(self):
         self.assert_steps(0, "")
+        self.assert_steps(0, " # nothing")
         self.assert_steps(0, "fun f(x) = x + 1; desk d { } fun g() = f(2); desk e { }")
 
     def test_const(self):
@@ -88,6 +94,8 @@ class Counts(SheetCase):
         sheet = bytes_of(burn(10000))
         self.assertEqual(expand(*MARKET, sheet), [0, 0])
         self.assertEqual(expand(*MARKET, sheet), [0, 0])
+        self.assertEqual(steps(*MARKET, sheet), [0, 10000])
+        self.assertEqual(steps(*MARKET, sheet), [0, 10000])
 
 
 class When(SheetCase):
