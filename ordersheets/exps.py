@@ -1,7 +1,8 @@
 """Reads an exp. The depth handed on is how many levels are open already."""
 
 from ordersheets.nodes import COMPARISON, Call, Chain, Choice, Name, Number, Sum, Unary
-from ordersheets.reader import ARGUMENTS, NOT_KNOWN, TOO_DEEP
+from ordersheets.reader import ARGUMENTS, NOT_HERE, NOT_KNOWN, TOO_DEEP, Reader
+from ordersheets.scan import scan_text
 
 MOST_LEVELS = 12
 
@@ -13,6 +14,15 @@ CHAIN_SIGNS = (
     ("+", "-"),
     ("*", "/", "/rest"),
 )
+
+
+def read_lone_exp(text):
+    """The exp of a text that holds nothing else; raises Fault if it has one."""
+    reader = Reader(scan_text(text))
+    exp = read_exp(reader, 0)
+    if not reader.at_end():
+        reader.fail(NOT_HERE)
+    return exp
 
 
 def deeper(reader, depth):

@@ -1,7 +1,9 @@
 """The place in a sheet up to which it has been read, and the names known there."""
 
+from ordersheets.refusals import Fault
 from ordersheets.scan import END, NUMBER, WORD, WRONG
 
+# The kinds of faults, numbered as the document numbers them.
 WRONG_TOKEN = 1
 NOT_HERE = 2
 NOT_KNOWN = 3
@@ -16,16 +18,6 @@ KEY_WORDS = (
 )
 
 FIRST_FUNCTIONS = {"min": 2, "max": 2, "abs": 1}
-
-
-class Fault(Exception):
-    """The first fault of a text: its number and its place."""
-
-    def __init__(self, number, line, column):
-        Exception.__init__(self)
-        self.number = number
-        self.line = line
-        self.column = column
 
 
 class Reader:
@@ -51,9 +43,9 @@ class Reader:
             raise Fault(WRONG_TOKEN, token.line, token.column)
         return token
 
-    def fail(self, number):
+    def fail(self, kind):
         token = self.current()
-        raise Fault(number, token.line, token.column)
+        raise Fault(kind, token.line, token.column)
 
     def sees(self, value):
         return self.current().value == value

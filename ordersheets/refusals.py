@@ -14,11 +14,14 @@ class NotAsTold(Refusal):
         Refusal.__init__(self, -1)
 
 
-class Faulty(Refusal):
-    """A text has a fault."""
+class Fault(Refusal):
+    """The first fault of a text: which of the faults it is, and its place."""
 
-    def __init__(self):
+    def __init__(self, kind, line, column):
         Refusal.__init__(self, -3)
+        self.kind = kind
+        self.line = line
+        self.column = column
 
 
 class NoSuchPlace(Refusal):

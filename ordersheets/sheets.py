@@ -1,12 +1,13 @@
 """The calls on order sheets. A text is a list of its bytes; an answer is a list of whole numbers."""
 
 from ordersheets.expansion import Market, expand_tops
+from ordersheets.exps import read_lone_exp
 from ordersheets.form import sheet_form
 from ordersheets.orders import demand, order_numbers, supply
-from ordersheets.reader import Fault
-from ordersheets.refusals import Faulty, NoSuchPlace, NotAsTold, Refusal
+from ordersheets.refusals import Fault, NoSuchPlace, NotAsTold, Refusal
 from ordersheets.simpler import simpler_tops
 from ordersheets.tops import read_sheet
+from ordersheets.worker import Worker
 
 LONGEST_TEXT = 3000
 
@@ -33,13 +34,13 @@ def need(as_told):
         raise NotAsTold()
 
 
-def sound_tops(text):
-    """The tops of a sheet without fault."""
-    try:
-        tops = read_sheet(text)
-    except Fault:
-        raise Faulty() from None
-    return tops
+def expanded(zones, quarters, low, high, text):
+    """The expansion of a sheet in a market, once both are known to be as told."""
+    return expand_tops(Market(zones, quarters, low, high), read_sheet(text))
+
+
+def order_rows(expansion):
+    return [row(order_numbers(order)) for order in expansion.orders]
 
 
 def row(numbers):
@@ -53,7 +54,7 @@ def check(text):
     try:
         read_sheet(text)
     except Fault as fault:
-        return [0, fault.number, fault.line, fault.column]
+        return [0, fault.kind, fault.line, fault.column]
     return [0, 0, 0, 0]
 
 
@@ -61,7 +62,7 @@ def show(text):
     """A row: the bytes of the sheet's one form."""
     try:
         need(is_text(text))
-        tops = sound_tops(text)
+        tops = read_sheet(text)
     except Refusal as refusal:
         return [refusal.number]
     return [0] + row(sheet_form(tops))
@@ -71,12 +72,12 @@ def expand(zones, quarters, low, high, text):
     """How many orders there are, then a row for each."""
     try:
         need(is_market(zones, quarters, low, high) and is_text(text))
-        expansion = expand_tops(Market(zones, quarters, low, high), sound_tops(text))
+        expansion = expanded(zones, quarters, low, high, text)
     except Refusal as refusal:
         return [refusal.number]
     answer = [0, len(expansion.orders)]
-    for order in expansion.orders:
-        answer.extend(row(order_numbers(order)))
+    for numbers in order_rows(expansion):
+        answer.extend(numbers)
     return answer
 
 
@@ -87,7 +88,7 @@ def curve(zones, quarters, low, high, zone, quarter, price, text):
         need(0 <= zone < MOST_ZONES and 0 <= quarter < MOST_QUARTERS and is_price(price))
         if zone >= zones or quarter >= quarters:
             raise NoSuchPlace()
-        orders = expand_tops(Market(zones, quarters, low, high), sound_tops(text)).orders
+        orders = expanded(zones, quarters, low, high, text).orders
     except Refusal as refusal:
         return [refusal.number]
     return [0, supply(orders, zone, quarter, price), demand(orders, zone, quarter, price)]
@@ -97,7 +98,7 @@ def fold(text):
     """A row: the bytes of the one form of the sheet made simpler."""
     try:
         need(is_text(text))
-        tops = simpler_tops(sound_tops(text))
+        tops = simpler_tops(read_sheet(text))
     except Refusal as refusal:
         return [refusal.number]
     return [0] + row(sheet_form(tops))
@@ -107,7 +108,28 @@ def steps(zones, quarters, low, high, text):
     """How many steps the expansion took."""
     try:
         need(is_market(zones, quarters, low, high) and is_text(text))
-        expansion = expand_tops(Market(zones, quarters, low, high), sound_tops(text))
+        expansion = expanded(zones, quarters, low, high, text)
     except Refusal as refusal:
         return [refusal.number]
     return [0, expansion.worker.taken]
+
+
+def same(zones, quarters, low, high, text, other):
+    """1 if both sheets have the same orders in the same order, else 0."""
+    try:
+        need(is_market(zones, quarters, low, high) and is_text(text) and is_text(other))
+        first = expanded(zones, quarters, low, high, text)
+        second = expanded(zones, quarters, low, high, other)
+    except Refusal as refusal:
+        return [refusal.number]
+    return [0, 1 if order_rows(first) == order_rows(second) else 0]
+
+
+def value(text):
+    """The value of a text that is an exp."""
+    try:
+        need(is_text(text))
+        worth = Worker().work_out(read_lone_exp(text))
+    except Refusal as refusal:
+        return [refusal.number]
+    return [0, worth]

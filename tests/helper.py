@@ -21,6 +21,16 @@ EXAMPLE = """
     }
 """
 
+# A sheet for each refusal of an expansion.
+REFUSED = {
+    -11: "const a = 1 / 0;",
+    -12: "const a = 999999999999999999 + 2;",
+    -13: "desk d { for i in 1 .. 10000 { } }",
+    -14: "desk d { sell zone 9 quarter 0 price 0 amount 1; }",
+    -15: "desk d { for i in 1 .. 49 { sell zone 0 quarter 0 price 0 amount 1; } }",
+    -16: "desk d { block p sell zone 0 price 0 amount t: 0; block sell zone 0 price 0 amount t: 1 under p; }",
+}
+
 
 def bytes_of(text):
     return list(text.encode("latin-1"))

@@ -5,19 +5,22 @@ import functools
 import io
 import unittest
 
-from ordersheets.sheets import check, curve, expand, fold, show, steps
+from ordersheets.sheets import check, curve, expand, fold, same, show, steps, value
 from tests.helper import EXAMPLE, MARKET, bytes_of
 
 SHEET = bytes_of("const a = 2 + 3 * 4; desk d { let b = a; if b { } else { } }")
 
-# Each as a call of a text alone.
-CALLS = (
+# Each as a call of a text alone; of a sheet's text all but the last.
+SHEET_CALLS = (
     check, show, functools.partial(expand, *MARKET), functools.partial(curve, *MARKET, 0, 0, 15), fold,
-    functools.partial(steps, *MARKET),
+    functools.partial(steps, *MARKET), functools.partial(same, *MARKET, SHEET),
+    lambda text: same(*MARKET, text, SHEET), lambda text: same(*MARKET, text, text),
 )
+CALLS = SHEET_CALLS + (value,)
 TEXTS = (
     [], SHEET, bytes_of(EXAMPLE), SHEET + [64], SHEET + bytes_of("const c = 1 / 0;"),
     bytes_of("desk e { for i in 1 .. 10000 { } }"), [64], [256], [-1], [32] * 3001,
+    bytes_of("sum(i in 1 .. 4: i * i) - 7"), bytes_of("1 % 0"), bytes_of("sum(i in 1 .. 10000: i)"), bytes_of("1 + "),
 )
 
 
@@ -132,7 +135,7 @@ class Calls(unittest.TestCase):
         )
         for text in long_ones:
             self.assertLessEqual(len(text), 3000)
-            for call in CALLS:
+            for call in SHEET_CALLS:
                 self.assertEqual(call(bytes_of(text))[0], 0)
         self.assertEqual(check(bytes_of("(" * 3000)), [0, 2, 1, 1])
         self.assertEqual(check(bytes_of("const a=" + "(" * 2900)), [0, 6, 1, 21])

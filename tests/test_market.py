@@ -2,21 +2,13 @@
 
 import unittest
 
-from ordersheets.sheets import curve, expand, steps
-from tests.helper import MARKET, bytes_of
+from ordersheets.sheets import curve, expand, same, steps
+from tests.helper import MARKET, REFUSED, bytes_of
 
 SOUND = bytes_of("desk d { let a = 1; }")
 FAULTY = bytes_of("desk d {")
 
 SELL = "sell zone 0 quarter 0 price 0 amount 1;"
-REFUSED = {
-    -11: "const a = 1 / 0;",
-    -12: "const a = 999999999999999999 + 2;",
-    -13: "desk d { for i in 1 .. 10000 { } }",
-    -14: "desk d { sell zone 9 quarter 0 price 0 amount 1; }",
-    -15: "desk d { for i in 1 .. 49 { " + SELL + " } }",
-    -16: "desk d { block p sell zone 0 price 0 amount t: 0; block sell zone 0 price 0 amount t: 1 under p; }",
-}
 
 MILLION = 1000000
 FAR = 10 ** 18
@@ -26,8 +18,16 @@ def curve_at_0(zones, quarters, low, high, text):
     return curve(zones, quarters, low, high, 0, 0, 0, text)
 
 
+def same_first(zones, quarters, low, high, text):
+    return same(zones, quarters, low, high, text, SOUND)
+
+
+def same_second(zones, quarters, low, high, text):
+    return same(zones, quarters, low, high, SOUND, text)
+
+
 # All calls of a market and a text.
-CALLS = (expand, curve_at_0, steps)
+CALLS = (expand, curve_at_0, steps, same_first, same_second)
 
 
 class Markets(unittest.TestCase):

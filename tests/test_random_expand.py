@@ -1,9 +1,9 @@
-"""expand, steps, curve and fold on many sheets put together by the grammar, against a second way to expand them."""
+"""Calls on many sheets that are put together by the grammar, against a second way to expand them."""
 
 import functools
 import unittest
 
-from ordersheets.sheets import curve, expand, steps
+from ordersheets.sheets import curve, expand, same, steps
 from tests.helper import bytes_of, folded, form_of
 from tests.test_random_sheets import TOKEN, Maker, made_sheets
 
@@ -387,6 +387,23 @@ class RandomSheets(unittest.TestCase):
                 if counted > 1500:
                     return
         self.fail("too few orders")
+
+    def test_same(self):
+        market = (2, 2, 0, 100)
+        met = {}
+        texts = [text for text in traded_sheets(SHEETS) if len(text) < 600][:300]
+        answers = [second_answer(market, text)[0] for text in texts]
+        for at, text in enumerate(texts):
+            for other in (at - 1, at, (at * 7 + 3) % len(texts)):
+                if answers[at][0] < 0 or answers[other][0] < 0:
+                    expected = answers[at][:1] if answers[at][0] < 0 else answers[other][:1]
+                else:
+                    expected = [0, int(answers[at] == answers[other])]
+                answer = same(*market, bytes_of(text), bytes_of(texts[other]))
+                self.assertEqual(answer, expected, (text, texts[other]))
+                met[tuple(answer)] = met.get(tuple(answer), 0) + 1
+        self.assertGreater(met[0, 0], 50, met)
+        self.assertGreater(met[0, 1], 50, met)
 
     def test_a_sheet_made_simpler_means_the_same(self):
         market = (2, 2, 0, 100)
