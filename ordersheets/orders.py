@@ -1,4 +1,4 @@
-"""The orders of an expansion, and what they supply and demand."""
+"""The orders of an expansion, what they supply and demand, and what each desk has of them."""
 
 # The sides, numbered as they're answered.
 SELLS = 0
@@ -70,3 +70,20 @@ def wanted(step, price):
     if price > step.high:
         return 0
     return step.amount * (step.high - price) // (step.high - step.low)
+
+
+def desk_numbers(orders, desk):
+    """How many step orders and block orders this desk has, and how much they sell and buy."""
+    own = [order for order in orders if order.desk == desk]
+    steps = [order for order in own if isinstance(order, StepOrder)]
+    return [len(steps), len(own) - len(steps), traded(own, SELLS), traded(own, BUYS)]
+
+
+def traded(orders, side):
+    return sum([whole_amount(order) for order in orders if order.side == side])
+
+
+def whole_amount(order):
+    if isinstance(order, StepOrder):
+        return order.amount
+    return sum(order.amounts)

@@ -3,8 +3,9 @@
 from ordersheets.expansion import Market, expand_tops
 from ordersheets.exps import read_lone_exp
 from ordersheets.form import sheet_form
-from ordersheets.orders import demand, order_numbers, supply
+from ordersheets.orders import demand, desk_numbers, order_numbers, supply
 from ordersheets.refusals import Fault, NoSuchPlace, NotAsTold, Refusal
+from ordersheets.scan import scan_text
 from ordersheets.simpler import simpler_tops
 from ordersheets.tops import read_sheet
 from ordersheets.worker import Worker
@@ -133,3 +134,29 @@ def value(text):
     except Refusal as refusal:
         return [refusal.number]
     return [0, worth]
+
+
+def desks(zones, quarters, low, high, text):
+    """How many desks there are, then for each how many step and block orders it has, and how much it sells and buys."""
+    try:
+        need(is_market(zones, quarters, low, high) and is_text(text))
+        expansion = expanded(zones, quarters, low, high, text)
+    except Refusal as refusal:
+        return [refusal.number]
+    # The desks are numbered from 0, and the expansion's desk is the last one.
+    count = expansion.desk + 1
+    answer = [0, count]
+    for desk in range(count):
+        answer.extend(desk_numbers(expansion.orders, desk))
+    return answer
+
+
+def tokens(text):
+    """How many tokens there are, then for each its kind, line and column."""
+    if not is_text(text):
+        return [-1]
+    found = scan_text(text)
+    answer = [0, len(found)]
+    for token in found:
+        answer.extend([token.kind, token.line, token.column])
+    return answer

@@ -11,6 +11,8 @@ MARKET = (2, 2, 0, 100)
 
 MOST_STEPS = 10000
 
+KEY_WORDS = "const fun desk let for in if then else sell buy zone quarter price to amount block under group sum".split()
+
 # The sheet under "Examples" in the document.
 EXAMPLE = """
     fun cost(n) = 10 + 5 * n;

@@ -5,16 +5,17 @@ import functools
 import io
 import unittest
 
-from ordersheets.sheets import check, curve, expand, fold, same, show, steps, value
+from ordersheets.sheets import check, curve, desks, expand, fold, same, show, steps, tokens, value
 from tests.helper import EXAMPLE, MARKET, bytes_of
 
 SHEET = bytes_of("const a = 2 + 3 * 4; desk d { let b = a; if b { } else { } }")
 
-# Each as a call of a text alone; of a sheet's text all but the last.
+# Each as a call of a text alone; value alone takes no sheet.
 SHEET_CALLS = (
     check, show, functools.partial(expand, *MARKET), functools.partial(curve, *MARKET, 0, 0, 15), fold,
     functools.partial(steps, *MARKET), functools.partial(same, *MARKET, SHEET),
     lambda text: same(*MARKET, text, SHEET), lambda text: same(*MARKET, text, text),
+    functools.partial(desks, *MARKET), tokens,
 )
 CALLS = SHEET_CALLS + (value,)
 TEXTS = (

@@ -1,8 +1,6 @@
 """check: what can stand where by the grammar (fault 2) and functions' arguments (fault 5)."""
 
-from tests.helper import SheetCase
-
-KEY_WORDS = "const fun desk let for in if then else sell buy zone quarter price to amount block under group sum".split()
+from tests.helper import KEY_WORDS, SheetCase
 
 SELL = "sell zone 0 quarter 0 price 0 amount 0;"
 

@@ -2,7 +2,7 @@
 
 import unittest
 
-from ordersheets.sheets import curve, expand, same, steps
+from ordersheets.sheets import curve, desks, expand, same, steps
 from tests.helper import MARKET, REFUSED, bytes_of
 
 SOUND = bytes_of("desk d { let a = 1; }")
@@ -27,7 +27,7 @@ def same_second(zones, quarters, low, high, text):
 
 
 # All calls of a market and a text.
-CALLS = (expand, curve_at_0, steps, same_first, same_second)
+CALLS = (expand, curve_at_0, steps, same_first, same_second, desks)
 
 
 class Markets(unittest.TestCase):
@@ -85,6 +85,7 @@ class Texts(unittest.TestCase):
         self.assertEqual(expand(*MARKET, text), [0, 1, 8, 0, 0, 0, 0, 0, 0, 0, 1])
         self.assertEqual(curve_at_0(*MARKET, text), [0, 1, 0])
         self.assertEqual(steps(*MARKET, text), [0, 5])
+        self.assertEqual(desks(*MARKET, text), [0, 1, 1, 0, 1, 0])
         for call in CALLS:
             self.assertEqual(call(*MARKET, text + [32]), [-1])
 

@@ -3,7 +3,7 @@
 import functools
 import unittest
 
-from ordersheets.sheets import curve, expand, same, steps
+from ordersheets.sheets import curve, desks, expand, same, steps
 from tests.helper import bytes_of, folded, form_of
 from tests.test_random_sheets import TOKEN, Maker, made_sheets
 
@@ -358,6 +358,20 @@ def second_curve(rows, zone, quarter, price):
     return [0, supply, demand]
 
 
+def second_desks(market, text):
+    second = Second(market, text)
+    rows = second.expand()
+    told = [0, second.desk + 1]
+    for desk in range(second.desk + 1):
+        steps_there = [row for row in rows if row[:2] == (0, desk)]
+        blocks_there = [row for row in rows if row[:2] == (1, desk)]
+        told += [len(steps_there), len(blocks_there)]
+        for side in (0, 1):
+            told.append(sum(row[7] for row in steps_there if row[4] == side)
+                        + sum(sum(row[7:]) for row in blocks_there if row[3] == side))
+    return told
+
+
 class RandomSheets(unittest.TestCase):
     def test_expand_and_steps(self):
         met = {}
@@ -387,6 +401,17 @@ class RandomSheets(unittest.TestCase):
                 if counted > 1500:
                     return
         self.fail("too few orders")
+
+    def test_desks(self):
+        market = (3, 4, -10, 50)
+        traded = 0
+        for text in traded_sheets(SHEETS)[::2]:
+            answer, count = second_answer(market, text)
+            if count is not None:
+                answer = second_desks(market, text)
+                traded += answer[1] > 1 and sum(answer[2:]) > 0
+            self.assertEqual(desks(*market, bytes_of(text)), answer, text)
+        self.assertGreater(traded, 30)
 
     def test_same(self):
         market = (2, 2, 0, 100)

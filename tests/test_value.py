@@ -4,16 +4,13 @@ import random
 import unittest
 
 from ordersheets.sheets import check, value
-from tests.helper import MARKET, bytes_of
+from tests.helper import KEY_WORDS, MARKET, bytes_of
 from tests.test_random_expand import Refused, Second, Trader
 from tests.test_random_sheets import spread
 
 GREATEST = 10 ** 18
 TOP = "(999999999999999999 + 1)"
 BOTTOM = "(-999999999999999999 - 1)"
-
-KEY_WORDS = (
-    "const fun desk let for in if then else sell buy zone quarter price to amount block under group sum").split()
 
 # What opens a level around an exp.
 LEVELS = (("(", ")"), ("abs(", ")"), ("min(", ", 1)"), ("max(1, ", ")"), ("sum(i in 1 .. 1: ", ")"),
